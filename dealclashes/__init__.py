@@ -1,0 +1,1 @@
+"""Dealclashes: any rule that deals out things by rankings, and which axioms go together."""
