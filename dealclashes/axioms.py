@@ -135,22 +135,27 @@ def move(items, naming):
     return tuple(moved)
 
 
+def name_things(row, dealing, naming):
+    """Return the row and the dealing in which the things are named anew."""
+    return tuple([rename(ranking, naming) for ranking in row]), rename(dealing, naming)
+
+
+def name_all(row, dealing, naming):
+    """Return the row and the dealing in which the people and the things are named anew alike."""
+    named_row, named_dealing = name_things(row, dealing, naming)
+    return move(named_row, naming), move(named_dealing, naming)
+
+
 def ask_things(row, dealing):
     """Ask for the dealing with the new names where the things are named anew."""
-    asked = []
-    for naming in dealings(len(row)):
-        other = tuple([rename(ranking, naming) for ranking in row])
-        asked.append((other, (rename(dealing, naming),)))
-    return asked
+    named = [name_things(row, dealing, naming) for naming in dealings(len(row))]
+    return [(other, (renamed,)) for other, renamed in named]
 
 
 def ask_names(row, dealing):
     """Ask for the dealing with the new names where the people and the things are named anew alike."""
-    asked = []
-    for naming in dealings(len(row)):
-        other = move([rename(ranking, naming) for ranking in row], naming)
-        asked.append((other, (move(rename(dealing, naming), naming),)))
-    return asked
+    named = [name_all(row, dealing, naming) for naming in dealings(len(row))]
+    return [(other, (renamed,)) for other, renamed in named]
 
 
 def has_no_boss(rule):
@@ -181,6 +186,9 @@ ACROSS = {
     "truthful": ask_truthful,
 }
 WHOLE = {"noboss": has_no_boss, "open": is_open}
+# Of those that look at other rows: those where one person alone changes its ranking, and new names.
+CHANGES = ("growing", "still", "truthful")
+RENAMINGS = {"names": name_all, "things": name_things}
 
 
 def axioms():

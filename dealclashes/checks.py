@@ -1,6 +1,6 @@
 """Checks of arguments: each one raises the error that is named for a wrong value."""
 
-from dealclashes.errors import BadDealing, BadPeople, BadPerson, BadRow, BadRule, NotAlike
+from dealclashes.errors import BadDealing, BadPeople, BadPerson, BadRow, BadRule, NotAlike, NotText
 
 PEOPLE = (2, 3)
 # The number of dealings that a rule chooses from, by the number of its items.
@@ -26,12 +26,17 @@ def check_people(people):
         raise BadPeople("there are 2 or 3 people")
 
 
+def is_row(value, people):
+    """Return whether the value is a row for so many people."""
+    if not isinstance(value, tuple) or len(value) != people:
+        return False
+    return all([is_order(ranking, people) for ranking in value])
+
+
 def check_row(row):
     """Raise BadRow unless the value is a row for 2 or 3 people."""
-    if not isinstance(row, tuple) or len(row) not in PEOPLE:
-        raise BadRow("a row is a tuple of 2 or 3 rankings")
-    if not all([is_order(ranking, len(row)) for ranking in row]):
-        raise BadRow("a ranking is a tuple of all things, each once")
+    if not any([is_row(row, people) for people in PEOPLE]):
+        raise BadRow("a row is a tuple of 2 or 3 rankings, each a tuple of all things")
 
 
 def check_dealing(dealing):
@@ -61,3 +66,9 @@ def check_person(person, people):
     """Raise BadPerson unless the value is one of so many people."""
     if not is_below(person, people):
         raise BadPerson("the people are numbered from 0")
+
+
+def check_text(text):
+    """Raise NotText unless the value is a string."""
+    if not isinstance(text, str):
+        raise NotText("a text is a string")

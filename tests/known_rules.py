@@ -66,8 +66,16 @@ CLASHES = {
     ),
 }
 
-# The least forcing sets of [10] for two people.
-FORCING_TWO = "core, best own, first own, notlast own, open own, own sole, own swapless"
+# The least forcing sets of [10].
+FORCING = {
+    2: "core, best own, first own, notlast own, open own, own sole, own swapless",
+    3: (
+        "core, best growing own, best own truthful, first growing own, growing names tops, growing open own, "
+        "growing own swapless, growing own tops, own swapless truthful, first names own truthful, "
+        "first own still tops, first own still truthful, names still tops truthful, open own still tops, "
+        "open own still truthful, open own tops truthful, own still tops truthful"
+    ),
+}
 
 
 def read_sets(text):

@@ -3,7 +3,7 @@ from itertools import combinations, product
 
 import plain_reference as plain
 import wrong_values as wrong
-from known_rules import CLASHES, FORCING_TWO, THREE, read_figures, read_sets
+from known_rules import CLASHES, FORCING, THREE, read_figures, read_sets
 from dealclashes.axioms import axioms, breaking_row, keeps, profile
 from dealclashes.errors import BadAxiom, BadRule
 from dealclashes.rows import dealings, rows
@@ -186,7 +186,7 @@ class SetsThatTheDocumentTells(unittest.TestCase):
         clashes = tuple(wanted for wanted in many if many[wanted] == 0 and min(parts(wanted)) > 0)
         forcing = tuple(wanted for wanted in many if many[wanted] == 1 and min(parts(wanted)) > 1)
         self.assertEqual(clashes, read_sets(CLASHES[2]))
-        self.assertEqual(forcing, read_sets(FORCING_TWO))
+        self.assertEqual(forcing, read_sets(FORCING[2]))
         self.assertEqual(len([kept for kept in profiles if kept == set(profile(TRADE))]), 1)
         self.assertEqual(sum("truthful" in kept for kept in profiles), 6)
 

@@ -43,3 +43,16 @@ NAMES = OTHERS[:5] + OTHERS[7:] + (
 AXIOMS = OTHERS[:5] + OTHERS[6:] + (
     "fair", "Best", "best ", "tops truthful", 0, 14, ("best",), ["best"], {"best": 1},
 )
+
+# No wanted axioms: of another kind, unknown, not ascending, double.
+WANTED = OTHERS[:7] + OTHERS[8:] + (
+    0, 2, "open", ["best"], ["best", "core"], {"best": "core"}, ("fair",), ("Best",), ("best ",), ("best", "fair"),
+    ("core", "best"), ("best", "best"), ("best", "core", "core"), ("things", "own"), ("tops", "truthful", "things"),
+    ("best", None), ("best", True), ("best", 0), ("best", ("core",)), ("best", ["core"]), (["best"],), (("best",),),
+    ("best", {"core": 1}), ("best", "core", 3), ("best core",), (True,), ("", "best"),
+)
+
+# No strings.
+NO_TEXTS = tuple(value for value in OTHERS if not isinstance(value, str)) + (
+    0, 1, ("01 10",), ["01 10"], {"01 10": 1}, ((0, 1), (1, 0)), (0, 0, 1, 0), [["row"]], ("row",),
+)
